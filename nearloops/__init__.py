@@ -1,0 +1,1 @@
+"""Nearloops: loops over numbers that are equal when near."""

@@ -1,0 +1,36 @@
+"""What names, numbers and tolerances are."""
+
+from nearloops.errors import BadNumber, BadTolerance
+
+LETTERS = "abcdefghijklmnopqrstuvwxyz"
+
+
+def is_name(thing):
+    """Tell whether any object is a name."""
+    if not isinstance(thing, str) or not 1 <= len(thing) <= 8:
+        return False
+    return all([letter in LETTERS for letter in thing])
+
+
+def is_number(thing):
+    """Tell whether any object is a number."""
+    if not isinstance(thing, int) or isinstance(thing, bool):
+        return False
+    return abs(thing) < 10 ** 30
+
+
+def is_tolerance(thing):
+    """Tell whether any object is a tolerance."""
+    return is_number(thing) and thing >= 1
+
+
+def check_number(number):
+    """Raise BadNumber for any object that is not a number."""
+    if not is_number(number):
+        raise BadNumber(number)
+
+
+def check_tolerance(tolerance):
+    """Raise BadTolerance for any object that is not a tolerance."""
+    if not is_tolerance(tolerance):
+        raise BadTolerance(tolerance)

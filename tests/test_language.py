@@ -1,0 +1,83 @@
+"""Rules of the language subset that a test can see in the files of the package."""
+
+import ast
+import builtins
+import pathlib
+import unittest
+
+FOLDER = pathlib.Path(__file__).resolve().parent.parent / "nearloops"
+BUILTINS = """len range enumerate zip min max sum abs sorted reversed int str bool bytes list tuple dict set
+    frozenset isinstance ord repr any all divmod iter next map super property staticmethod classmethod Exception
+    ValueError TypeError KeyError IndexError LookupError ZeroDivisionError ArithmeticError OverflowError RuntimeError
+    NotImplementedError AttributeError StopIteration NotImplemented""".split()
+BARRED = """type typing enum Enum Generic Protocol ABC dataclass overload contextmanager namedtuple open input exec eval
+    getattr setattr hasattr globals locals vars id hash print float global""".split()
+NODES = (ast.Global, ast.AsyncFunctionDef, ast.Await, ast.Div, ast.Import)
+
+
+def files():
+    """Return the files of the package."""
+    return sorted(FOLDER.glob("*.py"))
+
+
+def trees():
+    """Return pairs of the name and the syntax tree of each file."""
+    return [(path.name, ast.parse(path.read_text("utf-8"))) for path in files()]
+
+
+class LanguageTest(unittest.TestCase):
+    def test_the_folder_contains_files_of_python_alone(self):
+        others = [path.name for path in FOLDER.iterdir() if path.suffix != ".py" and path.name != "__pycache__"]
+        self.assertEqual(others, [])
+
+    def test_sizes_and_characters(self):
+        for path in files():
+            data = path.read_bytes()
+            lines = data.decode("ascii").split("\n")
+            self.assertLessEqual(len(lines), 399, path.name)
+            self.assertLessEqual(max(len(line) for line in lines), 120, path.name)
+            self.assertTrue(all(byte == 10 or 32 <= byte <= 126 for byte in data), path.name)
+
+    def test_sizes_of_functions(self):
+        for name, tree in trees():
+            for node in ast.walk(tree):
+                if isinstance(node, ast.FunctionDef):
+                    self.assertLessEqual(node.end_lineno - node.lineno + 1, 40, (name, node.name))
+
+    def test_imports(self):
+        for name, tree in trees():
+            for node in ast.walk(tree):
+                if isinstance(node, ast.ImportFrom):
+                    self.assertEqual(node.level, 0, name)
+                    self.assertIn(node.module.split(".")[0], ["nearloops", "heapq", "math", "itertools"], name)
+                    self.assertNotIn("*", [alias.name for alias in node.names], name)
+
+    def test_statements_and_names(self):
+        known = set(dir(builtins)) - {"_"}
+        for name, tree in trees():
+            for node in ast.walk(tree):
+                self.assertNotIsInstance(node, NODES, name)
+                if isinstance(node, ast.Name):
+                    self.assertNotIn(node.id, BARRED, name)
+                    if node.id in known:
+                        self.assertIn(node.id, BUILTINS, name)
+                if isinstance(node, ast.Constant):
+                    self.assertNotIsInstance(node.value, (float, complex), name)
+                    self.assertFalse(isinstance(node.value, str) and chr(37) in node.value, name)
+                if isinstance(node, ast.arg):
+                    self.assertNotIn(node.arg, known, name)
+
+    def test_imports_make_no_circle(self):
+        needs = {}
+        for name, tree in trees():
+            found = [node.module for node in ast.walk(tree) if isinstance(node, ast.ImportFrom)]
+            needs["nearloops." + name[:-3]] = [module for module in found if module.startswith("nearloops")]
+        while needs:
+            free = [name for name in needs if not any(other in needs for other in needs[name])]
+            self.assertNotEqual(free, [], "these import from each other: " + ", ".join(needs))
+            for name in free:
+                del needs[name]
+
+
+if __name__ == "__main__":
+    unittest.main()
