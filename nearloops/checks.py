@@ -1,8 +1,9 @@
-"""What names, numbers and tolerances are."""
+"""What names, numbers, tolerances and rows are."""
 
-from nearloops.errors import BadNumber, BadTolerance
+from nearloops.errors import BadNumber, BadRow, BadTolerance
 
 LETTERS = "abcdefghijklmnopqrstuvwxyz"
+MOST_ITEMS = 1000
 
 
 def is_name(thing):
@@ -34,3 +35,11 @@ def check_tolerance(tolerance):
     """Raise BadTolerance for any object that is not a tolerance."""
     if not is_tolerance(tolerance):
         raise BadTolerance(tolerance)
+
+
+def check_row(row):
+    """Raise BadRow for any object that is not a row, BadNumber for its first item that is not a number."""
+    if not isinstance(row, (list, tuple)) or len(row) > MOST_ITEMS:
+        raise BadRow()
+    for item in row:
+        check_number(item)

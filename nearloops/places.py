@@ -4,6 +4,7 @@ from nearloops.checks import check_number, check_tolerance
 from nearloops.errors import BadGroup
 
 PLACES = ("below", "-<", "-=", "->", "<", "=", ">", "+<", "+=", "+>", "above")
+SIGNS = ("<", "=", ">")
 
 # The groups that are not called as a single place.
 GROUPS = {
@@ -36,13 +37,26 @@ def are_groups(things):
     return all([is_group(thing) for thing in things])
 
 
-def _sign(rest, kept_rest):
-    """Return how a rest stands to the rest of a kept number."""
-    if rest < kept_rest:
+def sign_of(rest, other):
+    """Return whether a rest is less than, equal to or greater than another one, as a sign."""
+    if rest < other:
         return "<"
-    if rest > kept_rest:
+    if rest > other:
         return ">"
     return "="
+
+
+def place_at(step, sign):
+    """Return the place of a number with so many cells more than the kept one and this sign of its rest."""
+    if step <= -2:
+        return "below"
+    if step >= 2:
+        return "above"
+    if step == -1:
+        return "-" + sign
+    if step == 1:
+        return "+" + sign
+    return sign
 
 
 def place(x, kept, tolerance):
@@ -52,17 +66,7 @@ def place(x, kept, tolerance):
     check_tolerance(tolerance)
     cell, rest = divmod(x, tolerance)
     kept_cell, kept_rest = divmod(kept, tolerance)
-    step = cell - kept_cell
-    if step <= -2:
-        return "below"
-    if step >= 2:
-        return "above"
-    sign = _sign(rest, kept_rest)
-    if step == -1:
-        return "-" + sign
-    if step == 1:
-        return "+" + sign
-    return sign
+    return place_at(cell - kept_cell, sign_of(rest, kept_rest))
 
 
 def group(name):

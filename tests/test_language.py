@@ -67,6 +67,18 @@ class LanguageTest(unittest.TestCase):
                 if isinstance(node, ast.arg):
                     self.assertNotIn(node.arg, known, name)
 
+    def test_properties_have_names_of_their_own(self):
+        properties, others = set(), set()
+        for _, tree in trees():
+            for node in ast.walk(tree):
+                if isinstance(node, ast.FunctionDef):
+                    marks = [mark.id for mark in node.decorator_list if isinstance(mark, ast.Name)]
+                    (properties if "property" in marks else others).add(node.name)
+                if isinstance(node, ast.Attribute) and isinstance(node.ctx, ast.Store):
+                    others.add(node.attr)
+        self.assertTrue(properties)
+        self.assertEqual(properties & others, set())
+
     def test_imports_make_no_circle(self):
         needs = {}
         for name, tree in trees():

@@ -4,10 +4,7 @@ import unittest
 
 from nearloops.errors import BadGroup, BadNumber, BadTolerance
 from nearloops.places import PLACES, group, place, turned
-from tests.helpers import EqualToAll, NearCase, Unequal
-
-MOST = 10 ** 30 - 1
-NO_INTEGERS = [True, False, None, 1.0, "1", b"1", [1], (1,), {}, 1j]
+from tests.helpers import MOST, NO_INTEGERS, EqualToAll, NearCase, Unequal
 
 
 def cell_of(number, tolerance):
