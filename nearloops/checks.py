@@ -1,9 +1,10 @@
-"""What names, numbers, tolerances and rows are."""
+"""What names, numbers, tolerances, rows and kinds are."""
 
-from nearloops.errors import BadNumber, BadRow, BadTolerance
+from nearloops.errors import BadKind, BadNumber, BadRow, BadTolerance
 
 LETTERS = "abcdefghijklmnopqrstuvwxyz"
 MOST_ITEMS = 1000
+KINDS = ("words", "keeps", "answers", "all")
 
 
 def is_name(thing):
@@ -43,3 +44,9 @@ def check_row(row):
         raise BadRow()
     for item in row:
         check_number(item)
+
+
+def check_kind(by):
+    """Raise BadKind for any object that is not one of the four kinds in which loops do the same."""
+    if not isinstance(by, str) or by not in KINDS:
+        raise BadKind(by)

@@ -11,7 +11,7 @@ from nearloops.witness import row_of, spots_between
 LONE_GAPS = ("none", "first", "second")
 
 
-def _gap(kept, other_kept, tolerance):
+def gap_of(kept, other_kept, tolerance):
     """Return the gap of the kept numbers of two loops."""
     if kept is None and other_kept is None:
         return "none"
@@ -28,7 +28,7 @@ def joint(one, other, row, tolerance):
     """Return the joint state of two loops behind a row."""
     told = run(one, row, tolerance)
     other_told = run(other, row, tolerance)
-    return (told.state, other_told.state, _gap(told.last, other_told.last, tolerance))
+    return (told.state, other_told.state, gap_of(told.last, other_told.last, tolerance))
 
 
 def _is_gap(thing):
@@ -67,7 +67,8 @@ def way(one, other, state):
     wanted = _checked(one, other, state)
     pair = Pair(one, other)
     height = 0 if isinstance(wanted[2], str) else abs(wanted[2][0])
-    states = Search(pair, height, lambda reached: 0 if reached == wanted else None).shortest()
+    search = Search(pair, height, lambda reached: 0 if reached == wanted else None, [(pair.begin, 0)])
+    states = search.shortest()
     if states is None:
         return None
     return row_of(pair, states, spots_between(pair, states))

@@ -21,7 +21,7 @@ def is_whole(state):
     return isinstance(state[2], str) or state[2][1] in SIGNS
 
 
-def _outwards(d):
+def outwards(d):
     """Return the step that leads away from 0."""
     return 1 if d > 0 else -1
 
@@ -41,8 +41,8 @@ def _leap_moves(state):
     """Return the moves in the midst of a leap."""
     one, other, gap = state
     d, word = gap
-    outer = d + _outwards(d)
-    inner = d - _outwards(d)
+    outer = d + outwards(d)
+    inner = d - outwards(d)
     if word == LEAP:
         return [((one, other, (outer, RISE)), 0)]
     if word == DIVE:
@@ -73,7 +73,7 @@ class Moves:
         gap = state[2]
         if isinstance(gap, str) or abs(gap[0]) <= FAR:
             return self._counted(state)
-        d = FAR * _outwards(gap[0])
+        d = FAR * outwards(gap[0])
         moves = []
         for later, cost in self._counted(with_d(state, d)):
             # Only what stays about d moves with it; all the rest ends about 0.
@@ -100,11 +100,11 @@ class Moves:
             later = self.pair.later(state, (cell, "=", "="))
             if _has_leapt(state, later):
                 d = later[2][0]
-                later = (later[0], later[1], (d - _outwards(d), LEAP))
+                later = (later[0], later[1], (d - outwards(d), LEAP))
             found[later] = 1
         for cell in between_cells(gap):
             later = self.pair.later(state, (cell, "=", "="))
             if _has_leapt(state, later):
-                later = (later[0], later[1], (gap[0] - _outwards(gap[0]), DIVE))
+                later = (later[0], later[1], (gap[0] - outwards(gap[0]), DIVE))
             found[later] = 1
         return list(found.items())

@@ -1,4 +1,4 @@
-"""Two loops together: their joint states, and what they do with one number.
+"""Two loops, or a loop and something else: their joint states, and what they do with one number.
 
 A spot tells where a number lies: a triple of its cell, counted from that of the
 kept number of the first loop (of the second loop if it alone has one), and of
@@ -21,6 +21,14 @@ PAIRS_OF_SIGNS = {
 
 # From this d on no number is near to both kept numbers, and some lie between.
 FAR = 4
+
+
+def clipped(state):
+    """Return the joint state with a d of FAR, or its negative, that is like one with a d further from 0."""
+    one, other, gap = state
+    if isinstance(gap, str):
+        return state
+    return (one, other, (max(-FAR, min(FAR, gap[0])), gap[1]))
 
 
 def _all_steps(loop):
@@ -104,24 +112,24 @@ def _places(gap, spot):
     return place_at(cell, sign), place_at(cell - gap[0], other_sign)
 
 
-class Pair:
-    """Two loops that run on the same row."""
+class Duo:
+    """A loop and something beside it that reads the same row, and has states and a kept number, too."""
 
-    def __init__(self, one, other):
-        self.one_steps = _all_steps(one)
-        self.other_steps = _all_steps(other)
-        self.one_answers = one.answers
-        self.other_answers = other.answers
-        self.begin = (one.start, other.start, "none")
+    def __init__(self, loop, other_states, gap):
+        self.one_states = loop.states
+        self.other_states = other_states
+        self.one_steps = _all_steps(loop)
+        self.begin = (loop.start, other_states[0], gap)
 
-    def answers_differ(self, state):
-        """Tell whether the two states of a joint state have different answers."""
-        return self.one_answers[state[0]] != self.other_answers[state[1]]
+    def other_step(self, state, found, word):
+        """Return what the other one does with a number at the place found, for which the loop tells the word."""
+        raise NotImplementedError("each class of duos has its own")
 
     def told(self, state, spot):
-        """Return what the loops do with a number at a spot: a word, whether it is kept and a state of each."""
-        one, other = _places(state[2], spot)
-        return self.one_steps[(state[0], one)], self.other_steps[(state[1], other)]
+        """Return what the two do with a number at a spot: a word, whether it is kept and a state of each."""
+        place, other_place = _places(state[2], spot)
+        one = self.one_steps[(state[0], place)]
+        return one, self.other_step(state[1], other_place, one[0])
 
     def later(self, state, spot):
         """Return the joint state behind a number at a spot."""
@@ -137,11 +145,41 @@ class Pair:
                 return spot
         return None
 
-    def spot_apart(self, state, by):
-        """Return a spot of a number from which the loops tell or keep something else, None if there is none."""
+    def spot_where(self, state, is_wanted):
+        """Return a spot of a number with which the two do something that is wanted, None if there is none."""
         gap = state[2]
         for spot in spots_in(gap, near_cells(gap) + outer_cells(gap) + between_cells(gap)):
             one, other = self.told(state, spot)
-            if (by != "keeps" and one[0] != other[0]) or (by != "words" and one[1] != other[1]):
+            if is_wanted(one, other):
                 return spot
+        return None
+
+
+class Pair(Duo):
+    """Two loops that run on the same row."""
+
+    def __init__(self, one, other):
+        super().__init__(one, other.states, "none")
+        self.other_steps = _all_steps(other)
+        self.one_answers = one.answers
+        self.other_answers = other.answers
+
+    def other_step(self, state, found, word):
+        """Return what the second loop does with a number at the place found."""
+        return self.other_steps[(state, found)]
+
+    def spot_apart(self, state, by):
+        """Return a spot of a number from which the loops tell or keep something else, None if there is none."""
+        if by == "words":
+            return self.spot_where(state, lambda one, other: one[0] != other[0])
+        if by == "keeps":
+            return self.spot_where(state, lambda one, other: one[1] != other[1])
+        return self.spot_where(state, lambda one, other: one[:2] != other[:2])
+
+    def numbers_to_difference(self, state, by):
+        """Return how many numbers show a difference of this kind, 0 or 1, None if more are needed."""
+        if by in ("answers", "all") and self.one_answers[state[0]] != self.other_answers[state[1]]:
+            return 0
+        if by != "answers" and self.spot_apart(state, by) is not None:
+            return 1
         return None

@@ -44,11 +44,12 @@ class Climb:
 class Search:
     """A search for a shortest sequence of joint states to a goal.
 
-    The goal is a function of a joint state: it returns how many more numbers
-    are needed there, or None if the joint state does not reach the goal.
+    It begins with any of the starts, pairs of a joint state with a d of at most the
+    height and of how many numbers it has cost. The goal is a function of a joint state:
+    it returns how many more numbers are needed there, or None if they do not reach it.
     """
 
-    def __init__(self, pair, height, goal):
+    def __init__(self, pair, height, goal, starts):
         self.moves = Moves(pair)
         self.goal = goal
         self.known_goals = {}
@@ -63,7 +64,8 @@ class Search:
         self.climbs_from = {}
         self.visits = {}
         self.bridges = {}
-        self._offer(GROUND, pair.begin, 0, (NOWHERE, MOVED))
+        for state, cost in starts:
+            self._offer(GROUND, state, cost, (NOWHERE, MOVED))
 
     def shortest(self):
         """Return the joint states to the goal, the first one included, None if it is not reached."""

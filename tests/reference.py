@@ -87,7 +87,7 @@ def numbers_of(gap):
 
 
 @functools.cache
-def _readings(gap, most):
+def readings(gap, most):
     """Return the pairs of places of a number, with the gaps if the first, and if the second loop keeps it."""
     kept, other = numbers_of(gap)
     cells = [number // 5 for number in (kept, other) if number is not None] or [0]
@@ -103,7 +103,7 @@ def _readings(gap, most):
 def led_to(one_deeds, other_deeds, state, most):
     """Return the joint states with a d up to most to which one leads, and by what the loops can differ there."""
     later, kinds = {}, set()
-    for place, other_place, firsts, seconds in _readings(state[2], most):
+    for place, other_place, firsts, seconds in readings(state[2], most):
         word, keeps, after = one_deeds[state[0], place]
         other_word, other_keeps, other_after = other_deeds[state[1], other_place]
         if word != other_word:

@@ -1,16 +1,10 @@
 """The examples of the document, word for word."""
 
-import contextlib
 import doctest
-import importlib.util
-import sys
-import types
+import pathlib
 import unittest
-from unittest import mock
 
-from nearloops.loops import Loop
-from tests.helpers import KNOWN_TEXTS
-
+DOCUMENT = pathlib.Path(__file__).resolve().parent.parent.parent / "shared" / "DOC.md"
 EXAMPLES = [
     """
 >>> from nearloops.places import place, turned, group
@@ -53,6 +47,28 @@ EXAMPLES = [
 [True, None]
 """,
     """
+>>> from nearloops.excursions import excursions
+>>> from nearloops.known import chain, leader
+>>> from nearloops.loops import Loop
+>>> walker = Loop.parse("a none near: go keep -> a")
+>>> stone = Loop.parse("b none: lie keep -> b")
+>>> [excursions(leader(), chain())[0], len(excursions(leader(), chain())), len(excursions(stone, walker))]
+[(('seek', 'seek', '<'), ('seek', 'seek', '<')), 3, 9]
+""",
+    """
+>>> from nearloops.known import cells, leader
+>>> from nearloops.papers import is_paper, paper
+>>> [is_paper(leader(), leader(), paper(leader(), leader())), paper(leader(), cells())]
+[True, None]
+""",
+    """
+>>> from nearloops.known import leader
+>>> from nearloops.papers import Table, is_paper
+>>> table = Table([("a", "b", "none")], [[], [("a", "b", "=")], []], 1, 1)
+>>> [("a", "b", (0, "=")) in table, ("a", "b", (0, "<")) in table, table.level(7), is_paper(leader(), leader(), table)]
+[True, False, (), False]
+""",
+    """
 >>> from nearloops.known import cells, chain, leader
 >>> from nearloops.partings import parting, same
 >>> [same(leader(), leader()), same(leader(), chain(), "answers"), len(parting(leader(), cells())[0])]
@@ -61,26 +77,21 @@ EXAMPLES = [
 ]
 
 
-def known_loops():
-    """Return a context in which nearloops.known is there: until it is written, one made from the texts."""
-    if importlib.util.find_spec("nearloops.known") is not None:
-        return contextlib.nullcontext()
-    module = types.ModuleType("nearloops.known")
-    for name, text in KNOWN_TEXTS.items():
-        setattr(module, name, lambda text=text: Loop.parse(text))
-    return mock.patch.dict(sys.modules, {"nearloops.known": module})
-
-
 class ExamplesTest(unittest.TestCase):
     def test_examples(self):
         for number, example in enumerate(EXAMPLES, start=1):
             with self.subTest(number):
                 test = doctest.DocTestParser().get_doctest(example, {}, f"example {number}", None, 0)
                 told = []
-                with known_loops():
-                    result = doctest.DocTestRunner(verbose=False).run(test, out=told.append)
+                result = doctest.DocTestRunner(verbose=False).run(test, out=told.append)
                 self.assertEqual((result.failed, "".join(told)), (0, ""))
                 self.assertGreaterEqual(result.attempted, 2)
+
+    @unittest.skipUnless(DOCUMENT.exists(), "the document is not here")
+    def test_these_are_examples_of_the_document(self):
+        parts = [part.strip() for part in DOCUMENT.read_text("utf-8").split("\n\n")]
+        for example in EXAMPLES:
+            self.assertIn(example.strip(), parts)
 
 
 if __name__ == "__main__":

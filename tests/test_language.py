@@ -3,6 +3,7 @@
 import ast
 import builtins
 import pathlib
+import re
 import unittest
 
 FOLDER = pathlib.Path(__file__).resolve().parent.parent / "nearloops"
@@ -12,6 +13,21 @@ BUILTINS = """len range enumerate zip min max sum abs sorted reversed int str bo
     NotImplementedError AttributeError StopIteration NotImplemented""".split()
 BARRED = """type typing enum Enum Generic Protocol ABC dataclass overload contextmanager namedtuple open input exec eval
     getattr setattr hasattr globals locals vars id hash print float global""".split()
+INTERFACE = {
+    "errors": "NearError BadNumber BadTolerance BadRow BadGroup BadLoop UnknownState BadAnswer BadJoint BadTable BadKind "
+              "BadWatch",
+    "places": "place group turned",
+    "loops": "Loop Loop.parse Loop.rules Loop.states Loop.start Loop.answers Loop.fitting Loop.text Loop.__len__ "
+             "Loop.__eq__",
+    "runs": "run Run Run.__len__ Run.__eq__",
+    "rows": "ranked same_shape",
+    "joints": "joint leads way",
+    "excursions": "excursions",
+    "papers": "Table Table.alone Table.levels Table.below Table.above Table.level Table.__contains__ Table.__eq__ paper "
+              "is_paper",
+    "partings": "same parting",
+    "known": "leader chain cells peak",
+}
 NODES = (ast.Global, ast.AsyncFunctionDef, ast.Await, ast.Div, ast.Import)
 
 
@@ -61,6 +77,7 @@ class LanguageTest(unittest.TestCase):
                     self.assertNotIn(node.id, BARRED, name)
                     if node.id in known:
                         self.assertIn(node.id, BUILTINS, name)
+                        self.assertIsInstance(node.ctx, ast.Load, (name, node.id))
                 if isinstance(node, ast.Constant):
                     self.assertNotIsInstance(node.value, (float, complex), name)
                     self.assertFalse(isinstance(node.value, str) and chr(37) in node.value, name)
@@ -78,6 +95,68 @@ class LanguageTest(unittest.TestCase):
                     others.add(node.attr)
         self.assertTrue(properties)
         self.assertEqual(properties & others, set())
+
+    def test_imports_are_used_and_their_names_mean_nothing_else(self):
+        for name, tree in trees():
+            imported = {alias.name for node in ast.walk(tree) if isinstance(node, ast.ImportFrom) for alias in node.names}
+            classes = {node.name for node in tree.body if isinstance(node, ast.ClassDef)}
+            bound, used = [], set()
+            for node in ast.walk(tree):
+                if isinstance(node, ast.arg):
+                    bound.append(node.arg)
+                if isinstance(node, ast.Name):
+                    (used.add if isinstance(node.ctx, ast.Load) else bound.append)(node.id)
+                if isinstance(node, (ast.FunctionDef, ast.ClassDef)) and node not in tree.body:
+                    self.assertNotIn(node.name, imported, name)
+            self.assertEqual(set(bound) & (imported | classes), set(), name)
+            self.assertEqual(imported - used, set(), name)
+
+    def test_names_at_module_level_are_bound_once(self):
+        for name, tree in trees():
+            names = []
+            for node in tree.body:
+                if isinstance(node, ast.ImportFrom):
+                    names += [alias.name for alias in node.names]
+                elif isinstance(node, (ast.FunctionDef, ast.ClassDef)):
+                    names.append(node.name)
+                elif isinstance(node, ast.Assign):
+                    names += [target.id for target in node.targets]
+            self.assertEqual(len(names), len(set(names)), name)
+
+    def test_methods_are_no_attributes(self):
+        methods, stored = set(), set()
+        for _, tree in trees():
+            for node in ast.walk(tree):
+                if isinstance(node, ast.ClassDef):
+                    methods |= {part.name for part in node.body if isinstance(part, ast.FunctionDef)}
+                if isinstance(node, ast.Attribute) and isinstance(node.ctx, ast.Store):
+                    stored.add(node.attr)
+        self.assertEqual(methods & stored, set())
+
+    def test_words_that_do_not_occur(self):
+        barred = re.compile(r"dataclass|overload|contextmanager|_wall|_WallAttr|metaclass=|"
+                            r"\b(type|typing|enum|Enum|Generic|Protocol|ABC|namedtuple|NamedTuple|TypedDict)\b")
+        for path in files():
+            self.assertIsNone(barred.search(path.read_text("utf-8")), path.name)
+
+    def test_sets_are_not_iterated(self):
+        for name, tree in trees():
+            for node in ast.walk(tree):
+                for part in [node.iter] if isinstance(node, (ast.For, ast.comprehension)) else []:
+                    is_call = isinstance(part, ast.Call) and isinstance(part.func, ast.Name)
+                    self.assertFalse(isinstance(part, (ast.Set, ast.SetComp)), name)
+                    self.assertFalse(is_call and part.func.id in ("set", "frozenset"), name)
+
+    def test_the_interface_is_defined_where_the_document_lists_it(self):
+        defined = {name: {node.name: node for node in tree.body if isinstance(node, (ast.FunctionDef, ast.ClassDef))}
+                   for name, tree in trees()}
+        for module, names in INTERFACE.items():
+            for word in names.split():
+                name, _, inner = word.partition(".")
+                self.assertIn(name, defined[module + ".py"], module)
+                if inner:
+                    body = defined[module + ".py"][name].body
+                    self.assertIn(inner, [part.name for part in body if isinstance(part, ast.FunctionDef)], word)
 
     def test_imports_make_no_circle(self):
         needs = {}
