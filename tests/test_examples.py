@@ -74,6 +74,39 @@ EXAMPLES = [
 >>> [same(leader(), leader()), same(leader(), chain(), "answers"), len(parting(leader(), cells())[0])]
 [True, True, 2]
 """,
+    """
+>>> from nearloops.known import chain, leader
+>>> from nearloops.watches import apart, covered, rings
+>>> [rings(leader(), covered("new")), len(rings(leader(), apart("new"))[0]), len(rings(chain(), covered("new"))[0])]
+[None, 3, 3]
+""",
+    """
+>>> from nearloops.known import leader
+>>> from nearloops.watches import apart, watched
+>>> watch = apart("new")
+>>> watched(leader(), watch, [0, 2, 0], 1, 0) in watch.alarms
+True
+""",
+    """
+>>> from nearloops.again import again
+>>> from nearloops.known import chain, leader
+>>> row, tolerance = again(chain(), ["new"])
+>>> [again(leader(), ["new"]), len(row)]
+[None, 3]
+""",
+    """
+>>> from nearloops.known import leader, peak
+>>> from nearloops.orders import order, repeats
+>>> [order(leader()), repeats(peak()), len(order(peak())[0])]
+[None, None, 2]
+""",
+    r"""
+>>> from nearloops.kinds import kinds, met
+>>> from nearloops.loops import Loop
+>>> loop = Loop.parse("a none: new keep -> b\nb near: old pass -> c\nc near: old pass -> b\nc far: new keep -> c\nb far: new keep -> b")
+>>> [met(loop), kinds(loop)]
+[('b', 'c'), [['b', 'c']]]
+""",
 ]
 
 
@@ -88,10 +121,10 @@ class ExamplesTest(unittest.TestCase):
                 self.assertGreaterEqual(result.attempted, 2)
 
     @unittest.skipUnless(DOCUMENT.exists(), "the document is not here")
-    def test_these_are_examples_of_the_document(self):
-        parts = [part.strip() for part in DOCUMENT.read_text("utf-8").split("\n\n")]
-        for example in EXAMPLES:
-            self.assertIn(example.strip(), parts)
+    def test_these_are_all_examples_of_the_document(self):
+        parts = DOCUMENT.read_text("utf-8").split("\n\n")
+        self.assertEqual([part.strip() for part in parts if part.strip().startswith(">>>")],
+                         [example.strip() for example in EXAMPLES])
 
 
 if __name__ == "__main__":

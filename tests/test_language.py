@@ -26,6 +26,11 @@ INTERFACE = {
     "papers": "Table Table.alone Table.levels Table.below Table.above Table.level Table.__contains__ Table.__eq__ paper "
               "is_paper",
     "partings": "same parting",
+    "watches": "Watch Watch.rules Watch.states Watch.start Watch.alarms Watch.__eq__ watched rings calm is_calm apart "
+               "covered",
+    "again": "again",
+    "orders": "order repeats",
+    "kinds": "met kinds",
     "known": "leader chain cells peak",
 }
 NODES = (ast.Global, ast.AsyncFunctionDef, ast.Await, ast.Div, ast.Import)
