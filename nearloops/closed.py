@@ -63,7 +63,7 @@ class Holdings:
             return True
         if mark == LEAP:
             # The last level that is looked at stands for others, further from 0.
-            return missing[-1] <= self.middle and missing[-1] <= abs(d)
+            return missing[-1] <= min(abs(d), self.middle)
         return missing[0] >= abs(d)
 
     def _missing(self, one, other, is_up):

@@ -8,6 +8,12 @@ from nearloops.sides import Side, node_of, with_node
 TOP = FAR + 1
 
 
+def _is_descent(gap, later):
+    """Tell whether this is a move by one cell towards 0 from a d that stands for greater ones."""
+    # From FAR on no d is passed over, so what such a move comes to is found there, by climbs.
+    return not isinstance(gap, str) and abs(gap[0]) == TOP and abs(later[0] - gap[0]) == 1
+
+
 class Reached:
     """The joint states that two loops reach, also those in the midst of leaps."""
 
@@ -36,15 +42,8 @@ class Reached:
         for later, _ in self.moves.moves_from(state):
             if not isinstance(later[2], str) and abs(later[2][0]) > FAR:
                 self._find(with_d(later, TOP * outwards(later[2][0])))
-            elif not self._is_descent(gap, later[2]):
+            elif not _is_descent(gap, later[2]):
                 self._find(later)
-
-    def _is_descent(self, gap, later):
-        """Tell whether this is a move by one cell towards 0 from a d that stands for greater ones."""
-        # From FAR on no d is passed over, so what such a move comes to is found there, by climbs.
-        if isinstance(gap, str) or isinstance(later, str):
-            return False
-        return abs(gap[0]) == TOP and abs(later[0] - gap[0]) == 1
 
     def lone_states(self):
         """Return the joint states whose gap is a word."""

@@ -91,12 +91,11 @@ class Side:
     def _steps_from(self, number):
         """Return masks of the nodes to which one leads with a nearer d, with the same and with one further from 0."""
         if number not in self.steps:
-            one, other, mark = self.known[number]
             masks = [0, 0, 0]
-            for later, _ in self.moves.moves_from((one, other, (self.d, mark))):
-                change = None if isinstance(later[2], str) else abs(later[2][0]) - abs(self.d)
+            for later, _ in self.moves.moves_from(with_node(self.known[number], self.d)):
+                change = abs(later[2][0]) - FAR
                 # All others end about 0, on either side.
-                if change in (-1, 0, 1) and later[2][0] * self.d > 0:
+                if change >= -1:
                     masks[change + 1] = masks[change + 1] | self._bit(node_of(later))
             self.steps[number] = tuple(masks)
         return self.steps[number]

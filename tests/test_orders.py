@@ -7,9 +7,10 @@ import unittest
 from nearloops.known import cells, chain, leader, peak
 from nearloops.loops import Loop
 from nearloops.orders import order, repeats
+from nearloops.pairs import clipped
 from nearloops.twists import Twist
 from tests.helpers import CELLS, CHAIN, LEADER, MOST, PEAK, NearCase
-from tests.lone_walks import shortest_twisted
+from tests.lone_walks import shortest_twisted, twisted
 from tests.reference import few_numbers, gap_of, random_pairs, told
 from tests.walks import random_rings
 
@@ -30,6 +31,7 @@ def answer(loop, row, tolerance):
 
 
 CALLS = {"order": (order, exchanged, 1), "repeats": (repeats, doubled, 0)}
+READINGS = {"order": (((0, 1), (1, 0)), 2), "repeats": (((0,), (0, 0)), 1)}
 
 
 def can_differ(loop, kind, row, tolerance):
@@ -113,12 +115,23 @@ class OrderTest(OrderCase):
                 self.assertEqual(self.check("order", loop), shortest_twisted(loop, "order", 8), loop.text())
                 self.assertEqual(self.check("repeats", loop), shortest_twisted(loop, "repeats", 8))
 
+    def test_all_joint_states_behind_two_readings(self):
+        for loop in [CHAIN, LEADER, PEAK, *self.drawn(106, 6)]:
+            for kind in CALLS:
+                twist = Twist(loop, *READINGS[kind])
+                found = {state: len(origin.way) - 1 + twist.new_count for state, origin in twist.origins.items()}
+                costs = {}
+                for state, cost in twisted(loop, kind, 6).items():
+                    # A d of 4, or of -4, stands for those that are further from 0.
+                    costs.setdefault(clipped(state), set()).add(cost)
+                self.assertEqual({state: {found[state]} for state in found if clipped(state) == state}, costs, loop.text())
+
     def test_rows_to_each_joint_state_behind_two_readings(self):
         # Those with a d of 4 stand for all that are further from 0: the row is stretched.
         far = 0
         for loop in [CHAIN, LEADER, *self.drawn(105, 8)]:
-            for kind, readings, count in [("order", ((0, 1), (1, 0)), 2), ("repeats", ((0,), (0, 0)), 1)]:
-                twist = Twist(loop, readings, count)
+            for kind in CALLS:
+                twist = Twist(loop, *READINGS[kind])
                 for one, other, gap in list(twist.origins):
                     if isinstance(gap, str) or abs(gap[0]) <= 4:
                         gaps = [gap]

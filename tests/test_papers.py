@@ -208,6 +208,24 @@ class PaperTest(PaperCase):
                 self.check_reached(counter(many), loop, 44, 5)
                 self.check_reached(loop, counter(many), 44, 5)
 
+    def test_what_is_reached_from_far_up_by_one_number(self):
+        # The second loop goes on by one cell with each number. The first one counts the numbers, and it keeps the sixth
+        # one behind the first: a number that is near to the other kept one, beyond it, or between the two. The second
+        # loop notes that number, and is dead when another one has come. So from a d of 5 alone one comes to both.
+        names = "abcdef"
+        rules = [("a", ("none",), "x", True, "a")] + [(names[k], ("any",), "x", False, names[k + 1]) for k in range(5)]
+        for place, back in [("+=", "above"), ("-=", "below")]:
+            one = Loop([*rules, ("f", (back,), "x", True, "a"), ("f", ("any",), "x", False, "f")])
+            for noted in ["<", "below", "above"]:
+                other = Loop([("u", ("none", place), "x", True, "u"), ("u", (noted,), "x", False, "v"),
+                              ("u", ("any",), "x", False, "w"), ("v", ("any",), "x", False, "w")])
+                lengths, _ = explored(one, other, 20)
+                found = [lengths[state] for state in lengths if state[:2] == ("a", "v")]
+                self.assertEqual(min(found), 7)
+                self.check_reached(one, other, 20, 8)
+                self.check_reached(other, one, 20, 8)
+                self.check_all(one, other)
+
     def test_rounds_of_different_lengths(self):
         for many, count, period in [(2, 3, 6), (4, 6, 12), (5, 6, 30), (5, 4, 20), (3, 3, 3)]:
             for one, other, below, above in [(counter(count), climber(many), 1, period),
