@@ -1,17 +1,18 @@
-"""All joint states that are reached, in the form of a table."""
+"""All joint states that are reached, in the form of a table.
+
+While they are looked for, a d of FAR + 1, or its negative, stands for all that are
+further from 0 than FAR.
+"""
 
 from nearloops.moves import Moves, is_whole, outwards, with_d
 from nearloops.pairs import FAR
 from nearloops.sides import Side, node_of, with_node
 
-# This d, and its negative, stand for all that are further from 0 than FAR.
-TOP = FAR + 1
-
 
 def _is_descent(gap, later):
     """Tell whether this is a move by one cell towards 0 from a d that stands for greater ones."""
     # From FAR on no d is passed over, so what such a move comes to is found there, by climbs.
-    return not isinstance(gap, str) and abs(gap[0]) == TOP and abs(later[0] - gap[0]) == 1
+    return not isinstance(gap, str) and abs(gap[0]) > FAR and abs(later[0] - gap[0]) == 1
 
 
 class Reached:
@@ -41,7 +42,7 @@ class Reached:
                 self._find(with_node(node, gap[0]))
         for later, _ in self.moves.moves_from(state):
             if not isinstance(later[2], str) and abs(later[2][0]) > FAR:
-                self._find(with_d(later, TOP * outwards(later[2][0])))
+                self._find(with_d(later, (FAR + 1) * outwards(later[2][0])))
             elif not _is_descent(gap, later[2]):
                 self._find(later)
 

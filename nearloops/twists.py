@@ -23,14 +23,13 @@ MIDDLE = 3
 SECOND_RESTS = (3, 1, 5)
 THIRD_RESTS = (3, 1, 5, 0, 2, 4, 6)
 
-# With no more cells two marks can lie so far apart that d is FAR, and the third one beyond them.
-REACH = FAR + 2
-
 
 def _all_marks(many):
     """Return lists of so many marks, of all shapes that matter."""
     found = [[MIDDLE]]
-    cells = sorted(range(-REACH, REACH + 1), key=abs)
+    # With no more cells two marks can lie so far apart that d is FAR, and the third one beyond them.
+    reach = FAR + 2
+    cells = sorted(range(-reach, reach + 1), key=abs)
     if many > 1:
         found = [[MIDDLE, cell * TOLERANCE + rest] for cell in cells for rest in SECOND_RESTS]
     if many > 2:
